@@ -1,0 +1,1 @@
+"""Commonhour: people's answers by hours, and hours at which they can meet."""
