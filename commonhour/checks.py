@@ -1,8 +1,9 @@
-"""Checks of what is handed in: words and meetings, refused where they are none."""
+"""Checks of what is handed in, refused where it is not what it should be."""
 
-from commonhour.errors import BadMeeting, BadWords, Unlike
+from commonhour.errors import BadHand, BadHour, BadMeeting, BadOlds, BadPerson, BadWord, BadWords, Unlike
 
 MOST_WORDS = 80
+MOST_MEETINGS = 6
 COUNTS = 99
 HANDS = 4
 PEOPLE = 8
@@ -10,11 +11,25 @@ HOURS = 12
 ANSWERS = ("yes", "maybe", "no")
 
 
-def is_number(value, least, most):
+def is_whole(value):
     # True and False are integers to Python, but no numbers here.
-    if not isinstance(value, int) or isinstance(value, bool):
-        return False
-    return least <= value <= most
+    return isinstance(value, int) and not isinstance(value, bool)
+
+
+def is_number(value, least, most):
+    return is_whole(value) and least <= value <= most
+
+
+def is_hand(value):
+    return is_number(value, 0, HANDS - 1)
+
+
+def is_person(value):
+    return is_number(value, 0, PEOPLE - 1)
+
+
+def is_hour(value):
+    return is_number(value, 0, HOURS - 1)
 
 
 def is_answer(value):
@@ -28,9 +43,9 @@ def is_word(value):
     count, hand, person, hour, answer = value
     return (
         is_number(count, 1, COUNTS)
-        and is_number(hand, 0, HANDS - 1)
-        and is_number(person, 0, PEOPLE - 1)
-        and is_number(hour, 0, HOURS - 1)
+        and is_hand(hand)
+        and is_person(person)
+        and is_hour(hour)
         and is_answer(answer)
     )
 
@@ -88,3 +103,39 @@ def is_meeting(value):
 def check_meeting(meeting):
     if not is_meeting(meeting):
         raise BadMeeting("a meeting is its people, how many are enough, and needed ones")
+
+
+def check_meetings(meetings):
+    if not isinstance(meetings, list) or len(meetings) > MOST_MEETINGS:
+        raise BadMeeting("meetings are a list of at most six meetings")
+    for meeting in meetings:
+        check_meeting(meeting)
+
+
+def check_olds(olds, many):
+    """BadOlds where olds is no list of an hour or None for each of so many meetings."""
+    if not isinstance(olds, list) or len(olds) != many:
+        raise BadOlds("olds are a list with one for each meeting")
+    for old in olds:
+        if old is not None and not is_hour(old):
+            raise BadOlds("an old one is an hour or None")
+
+
+def check_hand(hand):
+    if not is_hand(hand):
+        raise BadHand("a hand is a number from 0 to 3")
+
+
+def check_person(person):
+    if not is_person(person):
+        raise BadPerson("a person is a number from 0 to 7")
+
+
+def check_hour(hour):
+    if not is_hour(hour):
+        raise BadHour("an hour is a number from 0 to 11")
+
+
+def check_answer(answer):
+    if not is_answer(answer):
+        raise BadWord("an answer is yes, maybe or no")

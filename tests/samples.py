@@ -144,3 +144,56 @@ def unlike_words():
         ((5, 2, 3, 4, "no"), (5, 2, 3, 4, "maybe")),
         (word, (5, 2, 0, 0, "no")),
     ]
+
+
+def made_up_meeting(chance):
+    people = tuple(sorted(chance.sample(range(8), chance.randint(1, 8))))
+    needed = tuple(person for person in people if chance.random() < 0.2)
+    return people, chance.randint(1, len(people)), needed
+
+
+def made_up_meetings(chance, many):
+    """So many meetings, some with hours of their own, some that share theirs."""
+    found = []
+    for _ in range(many):
+        person = chance.randrange(8)
+        easy = ((person,), 1, chance.choice(((), (person,))))
+        found.append(chance.choice((easy, easy, made_up_meeting(chance))))
+    return found
+
+
+def made_up_olds(chance, many):
+    return [chance.choice((None, *range(12), *range(12))) for _ in range(many)]
+
+
+def said(*rows):
+    """Words by which the person of each row's place says yes at just the hours of the row."""
+    pairs = [(person, hour) for person, row in enumerate(rows) for hour in row]
+    return [word_at(place, person, hour) for place, (person, hour) in enumerate(pairs)]
+
+
+def alone(*people):
+    """A meeting for each of these people alone."""
+    return [((person,), 1, ()) for person in people]
+
+
+def wrong_lists_of_meetings():
+    """What is no list of at most six meetings."""
+    good = ((0, 1), 1, ())
+    found = [good, (good,), (), 0, 1, True, False, *ODD, [[good]], [good] * 7, [good] * 50, [None] * 7]
+    for meeting in wrong_meetings():
+        found += [[meeting], [meeting, good], [good, meeting], [good] * 5 + [meeting]]
+    return found
+
+
+def wrong_olds(many):
+    """What is no list of an hour or None for each of so many meetings."""
+    good = [None, 0, 11, 5, None, 7][:many]
+    found = [tuple(good), 0, 1, many, True, False, *ODD, good + [None], good + [0], [None] * 50]
+    if many:
+        found += [[], good[1:], [good]]
+    for worth in wrong_numbers(0, 11):
+        # None stands among what is no number, but as an old one it is right.
+        if worth is not None:
+            found += [good[:at] + [worth] + good[at + 1:] for at in range(many)]
+    return found

@@ -3,37 +3,18 @@ import unittest
 
 from commonhour.errors import BadMeeting, BadWords, HourError, Unlike
 from commonhour.words import hours, hours_maybe, joined
+from tests.own_sums import hours_one_by_one
 from tests.samples import (
-    ANSWERS, chances, distinct, pool, unlike_words, word_at, wrong_lists_of_words, wrong_meetings,
+    ANSWERS, chances, distinct, made_up_meeting, pool, unlike_words, word_at, wrong_lists_of_words,
+    wrong_meetings,
 )
 
 ASKED = (hours, hours_maybe)
 ALL_HOURS = list(range(12))
 
 
-def answer_of(words, person, hour):
-    said = [word for word in words if word[2:4] == (person, hour)]
-    return max(said)[4] if said else "no"
-
-
-def hours_one_by_one(words, meeting):
-    people, enough, needed = meeting
-    found = []
-    for hour in range(12):
-        ready = {person for person in people if answer_of(words, person, hour) == "yes"}
-        if len(ready) >= enough and set(needed) <= ready:
-            found.append(hour)
-    return found
-
-
 def maybes_made_yes(words):
     return [(*word[:4], "yes" if word[4] == "maybe" else word[4]) for word in words]
-
-
-def made_up_meeting(chance):
-    people = tuple(sorted(chance.sample(range(8), chance.randint(1, 8))))
-    needed = tuple(person for person in people if chance.random() < 0.2)
-    return people, chance.randint(1, len(people)), needed
 
 
 class HoursTest(unittest.TestCase):

@@ -3,23 +3,44 @@ import inspect
 import pathlib
 import unittest
 
-from commonhour import words
+from commonhour import answers, books, tables, words
 
 FOLDER = pathlib.Path(words.__file__).parent
 FILES = sorted(FOLDER.glob("*.py"))
-PARAMETERS = {
-    "joined": ["one", "other"],
-    "hours": ["words", "meeting"],
-    "hours_maybe": ["words", "meeting"],
+FUNCTIONS = {
+    (words, "joined"): ["one", "other"],
+    (words, "hours"): ["words", "meeting"],
+    (words, "hours_maybe"): ["words", "meeting"],
+    (tables, "first"): ["words", "meeting"],
+    (tables, "table"): ["words", "meetings", "olds"],
+}
+CLASSES = {
+    (answers, "At"): {"__init__": ["hour"], "shows": ["words", "meeting"]},
+    (answers, "Barred"): {"__init__": ["rows"], "shows": ["words", "meeting"]},
+    (answers, "Moved"): {"__init__": ["hours", "prices", "rents"], "shows": ["words", "meetings", "olds"]},
+    (answers, "Tight"): {"__init__": ["meetings", "hours"], "shows": ["words", "meetings", "olds"]},
+    (books, "Book"): {
+        "__init__": ["hand"], "answer": ["person", "hour", "word"], "hear": ["words"],
+        "all_words": [], "says": ["person", "hour"],
+    },
 }
 
 
 class InterfaceTest(unittest.TestCase):
     def test_functions_are_defined_in_their_file(self):
-        for name, parameters in PARAMETERS.items():
-            asked = getattr(words, name)
-            self.assertEqual(asked.__module__, "commonhour.words")
+        for (module, name), parameters in FUNCTIONS.items():
+            asked = getattr(module, name)
+            self.assertEqual(asked.__module__, module.__name__)
             self.assertEqual(list(inspect.signature(asked).parameters), parameters)
+
+    def test_classes_are_defined_in_their_file_with_methods_of_their_own(self):
+        self.assertEqual(answers.Answer.__module__, "commonhour.answers")
+        for (module, name), methods in CLASSES.items():
+            kind = getattr(module, name)
+            self.assertEqual(kind.__module__, module.__name__)
+            for method, parameters in methods.items():
+                self.assertIn(method, vars(kind))
+                self.assertEqual(list(inspect.signature(vars(kind)[method]).parameters), ["self", *parameters])
 
 
 class FilesTest(unittest.TestCase):
